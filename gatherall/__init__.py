@@ -1,0 +1,1 @@
+"""Gatherall: counters that gather, on webs and in houses."""

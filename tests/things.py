@@ -1,0 +1,162 @@
+"""Wrong things to hand in, and slow, plain searches to hold the program's answers against."""
+
+import itertools
+
+# Of no use anywhere, whatever is asked for.
+ODD = [
+    None, True, False, -1, 9, 10 ** 5000, 1j, "", "0", "01", "web", b"", b"\x00", [], [0], [(0, 1)], {}, {0: 1},
+    {(0, 1): True}, set(), {0}, frozenset(), frozenset({(0, 1)}), range(2), object(), object, int, len, ValueError("no"),
+    NotImplemented, ..., (None,), ("0",), ((),), ([],), ({},), (True,), (False,), (0, True), (False, 1), (-1,),
+    (0, None), (0, "1"), (1, 0), (1, 1), (0, 10 ** 5000),
+]
+
+# Wrong webs and wrong houses alike.
+WRONG_PAIRS = ODD + [
+    (), 0, 1, (1,), (1, None), (1, 0), (1, []), (1, ""), (1, {}), (1, frozenset()), [1, ()], (1, (), ()), ((), 1),
+    (0, ()), (-1, ()), (9, ()), ("1", ()), (None, ()), (True, ()), ((1,), ()), ([1], ()), (10 ** 5000, ()),
+    (2, (0, 1)), (2, 0), (2, (None,)), (2, ("01",)), (2, (0,)),
+]
+
+WRONG_WEBS = WRONG_PAIRS + [
+    (2, [(0, 1)]), [2, ((0, 1),)], (2, ([0, 1],)), (2, ({0: 1},)), (2, ({0, 1},)), (2, ((0,),)), (2, ((),)),
+    (3, ((0, 1, 2),)), (2, ((1, 0),)), (2, ((0, 0),)), (2, ((1, 1),)), (2, ((0, 2),)), (2, ((-1, 0),)),
+    (2, ((-1, 1),)), (2, ((0, 1), (0, 1))), (3, ((1, 2), (0, 1))), (3, ((0, 2), (0, 1))), (3, ((0, 1), (1, 2), (0, 2))),
+    (2, ((0, True),)), (2, ((False, 1),)), (2, ((False, True),)), (3, ((True, 2),)), (2, ((0, None),)),
+    (2, ((0, "1"),)), (2, ((0, (1,)),)), (2, ((0, 1), None)), (2, ((0, 1), 5)), (1, ((0, 1),)), (9, ((0, 1),)),
+    (2, ((0, 10 ** 5000),)), (True, ()), (2, (((0,), (1,)),)), (2, ((0, 1),), ()), (8, ((7, 8),)),
+]
+
+WRONG_HOUSES = WRONG_PAIRS + [
+    (1, ()), (8, ()), (2, [(0, 1)]), [2, ((0, 1),)], (2, ([0, 1],)), (2, ({0: 1},)), (2, ((0,),)), (2, ((),)),
+    (2, ((0, 1, 1),)), (2, ((0, 2),)), (2, ((0, -1),)), (2, ((0, True),)), (2, ((False, 1),)), (1, ((False,),)),
+    (2, ((0, None),)), (2, ((0, "1"),)), (2, ((0, (1,)),)), (2, ((0, 1), None)), (2, ((0, 1), (0,))),
+    (2, ((0, 1), (0, 2))), (2, ((0, 1), (1, 1), (0, 0), (1, 0))), (1, ((0,), (0,), (0,), (0,))), (True, ((0,),)),
+    (0, ((),)), (9, (tuple(range(9)),)), (2, ((0, 10 ** 5000),)), (2, ((0, 1),), ()), (3, ((0, 1),)),
+    (1, ((0,), [0])), (8, (tuple(range(8)), tuple(range(1, 9)))),
+]
+
+
+def wrong_places(many):
+    out_of_range = [(many,), (0, many), (-1, 0), (-many,), (many + 1,), tuple(range(many + 1))]
+    twice = [(0, 0), (many - 1, many - 1), tuple(range(many)) + (many - 1,)]
+    other = [(), 0, 1, ((0,),), ((0, 0),), (0, (many - 1,)), list(range(many)), dict.fromkeys(range(many))]
+    return ODD + out_of_range + twice + other
+
+
+def wrong_rows(doors):
+    out_of_range = [(doors,), (0, doors), (-1,), (0, -1), (-doors,), (0,) * 59 + (doors,)]
+    too_long = [(0,) * 61, (0,) * 100, (doors - 1,) * 61]
+    other = [0, 1, ((),), ((0,),), [0] * 3, {0: 0}, "00", (0, None), (False,), (0, False), (0,) * 59 + (False,)]
+    return [thing for thing in ODD if thing not in [(1, 0), (1, 1)]] + out_of_range + too_long + other
+
+
+def subsets(many):
+    return [each for size in range(1, many + 1) for each in itertools.combinations(range(many), size)]
+
+
+def all_webs(many):
+    ties = list(itertools.combinations(range(many), 2))
+    for chosen in itertools.product([False, True], repeat=len(ties)):
+        yield (many, tuple(tie for tie, taken in zip(ties, chosen) if taken))
+
+
+def some_web(chance, many, part):
+    ties = itertools.combinations(range(many), 2)
+    return (many, tuple(tie for tie in ties if chance.random() < part))
+
+
+def some_house(chance, many, doors):
+    return (many, tuple(tuple(chance.randrange(many) for room in range(many)) for door in range(doors)))
+
+
+def ring(many):
+    return (many, tuple(sorted([(0, many - 1)] + [(k, k + 1) for k in range(many - 1)])))
+
+
+def path(many):
+    return (many, tuple((k, k + 1) for k in range(many - 1)))
+
+
+def slow_house(many):
+    """Door 0 goes round, door 1 leads from the last room to the first: all gather by no fewer
+    than (many - 1) times (many - 1) doors."""
+    return (many, (tuple((k + 1) % many for k in range(many)), tuple(range(many - 1)) + (0,)))
+
+
+def slow_row(many):
+    return (1,) + ((0,) * (many - 1) + (1,)) * (many - 2)
+
+
+def neighbours(web, place):
+    return [tie[1 - end] for tie in web[1] for end in (0, 1) if tie[end] == place]
+
+
+def slow_moves(web, places, moves_of):
+    """The fewest moves of all counters together, from state to state, and the least place."""
+    level = {tuple(places)}
+    seen = set(level)
+    count = 0
+    while level:
+        gathered = [state[0] for state in level if len(set(state)) == 1]
+        if gathered:
+            return (count, min(gathered))
+        level = {new for state in level for new in moves_of(web, state)} - seen
+        seen |= level
+        count += 1
+    return None
+
+
+def one_goes(web, state):
+    for k, place in enumerate(state):
+        for other in neighbours(web, place):
+            yield state[:k] + (other,) + state[k + 1:]
+
+
+def all_go(web, state):
+    return itertools.product(*[neighbours(web, place) for place in state])
+
+
+def walks(web, start, moves):
+    found = [(start,)]
+    for move in range(moves):
+        found = [walk + (other,) for walk in found for other in neighbours(web, walk[-1])]
+    return found
+
+
+def slow_led(house, places, row):
+    rooms = set(places)
+    for door in row:
+        rooms = {house[1][door][room] for room in rooms}
+    return tuple(sorted(rooms))
+
+
+def slow_first(house, places, fits, longest):
+    """The first row that fits, of all rows, the shorter ones first, up to a length."""
+    for many in range(longest + 1):
+        for row in itertools.product(range(len(house[1])), repeat=many):
+            if fits(slow_led(house, places, row)):
+                return row
+    return None
+
+
+def slow_reached(house, places):
+    found = {tuple(places)}
+    while True:
+        more = found | {slow_led(house, each, (door,)) for each in found for door in range(len(house[1]))}
+        if more == found:
+            return sorted(found)
+        found = more
+
+
+def fewest_doors(house, places, fits):
+    """How many doors are needed till a standing fits, counted level by level; or None."""
+    level = {tuple(places)}
+    seen = set(level)
+    count = 0
+    while level:
+        if any(fits(each) for each in level):
+            return count
+        level = {slow_led(house, each, (door,)) for each in level for door in range(len(house[1]))} - seen
+        seen |= level
+        count += 1
+    return None
