@@ -1,6 +1,6 @@
-"""What is a web, a house, places, a row; and the refusals of what is none."""
+"""What is a web, a house, places, a row, names; and the refusals of what is none."""
 
-from gatherall.errors import NoHouse, NoPlaces, NoRow, NoWeb
+from gatherall.errors import NoHouse, NoNames, NoPlaces, NoRow, NoWeb
 
 MOST_PLACES = 8
 MOST_DOORS = 3
@@ -34,6 +34,16 @@ def is_door(thing, many):
     return are_numbers(thing, 0, many - 1) and len(thing) == many
 
 
+def is_broken_door(thing, many):
+    if not isinstance(thing, tuple) or len(thing) != many:
+        return False
+    return all([each is None or is_number(each, 0, many - 1) for each in thing])
+
+
+def is_each_once(thing, many):
+    return are_numbers(thing, 0, many - 1) and sorted(thing) == list(range(many))
+
+
 # Webs and houses are alike so far: so this is asked in one place.
 def is_number_and_tuple(thing):
     if not isinstance(thing, tuple) or len(thing) != 2:
@@ -48,10 +58,16 @@ def is_web(thing):
     return all([is_tie(each, thing[0]) for each in thing[1]]) and is_rising(thing[1])
 
 
+def may_hold_doors(thing):
+    return is_number_and_tuple(thing) and 1 <= len(thing[1]) <= MOST_DOORS
+
+
 def is_house(thing):
-    if not is_number_and_tuple(thing) or not 1 <= len(thing[1]) <= MOST_DOORS:
-        return False
-    return all([is_door(each, thing[0]) for each in thing[1]])
+    return may_hold_doors(thing) and all([is_door(each, thing[0]) for each in thing[1]])
+
+
+def is_broken_house(thing):
+    return may_hold_doors(thing) and all([is_broken_door(each, thing[0]) for each in thing[1]])
 
 
 def is_row(thing, house):
@@ -68,6 +84,11 @@ def need_house(house):
         raise NoHouse("this is no house")
 
 
+def need_broken_house(broken):
+    if not is_broken_house(broken):
+        raise NoHouse("this is no broken house")
+
+
 def need_places(places, many):
     if not are_places(places, many):
         raise NoPlaces("these are no places")
@@ -76,3 +97,8 @@ def need_places(places, many):
 def need_row(row, house):
     if not is_row(row, house):
         raise NoRow("this is no row of doors")
+
+
+def need_each_once(names, many):
+    if not is_each_once(names, many):
+        raise NoNames("these are not all the numbers, each once")

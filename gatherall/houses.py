@@ -9,14 +9,18 @@ def need_house_and_places(house, places):
     need_places(places, house[0])
 
 
+# A house is a broken house of which no door leads nowhere: so both go this way.
+# None is behind a door that leads nowhere from one of the rooms.
 def through(door, standing):
-    return tuple(sorted(set([door[room] for room in standing])))
+    rooms = [door[room] for room in standing]
+    return None if None in rooms else tuple(sorted(set(rooms)))
 
 
 def behind_row(house, places, row):
     standing = places
     for door in row:
-        standing = through(house[1][door], standing)
+        if standing is not None:
+            standing = through(house[1][door], standing)
     return standing
 
 
@@ -36,10 +40,32 @@ def shortest_rows(house, places):
         standing = waiting.pop(0)
         for door in range(len(house[1])):
             behind = through(house[1][door], standing)
-            if behind not in rows:
+            if behind is not None and behind not in rows:
                 rows[behind] = rows[standing] + (door,)
                 waiting.append(behind)
     return rows
+
+
+def row_to_so_few(house, places, few):
+    rows = shortest_rows(house, places)
+    fitting = [standing for standing in rows if len(standing) == few]
+    return rows[fitting[0]] if fitting else None
+
+
+# What can be come to leads to nothing else: so it bars, unless so few are in it.
+def never_so_few(house, places, few):
+    standings = sorted(shortest_rows(house, places))
+    return None if any([len(standing) == few for standing in standings]) else standings
+
+
+def never_lead_out(house, places, standings):
+    listed = dict([(standing, True) for standing in standings])
+    # None may be behind a door as well: through it they can not go.
+    listed[None] = True
+    for door in house[1]:
+        if not all([through(door, standing) in listed for standing in standings]):
+            return False
+    return places in listed
 
 
 def reached(house, places):
@@ -56,8 +82,8 @@ def fewest(house, places):
 
 
 def gather(house, places):
-    told = fewest(house, places)
-    return told[1] if told[0] == 1 else None
+    need_house_and_places(house, places)
+    return row_to_so_few(house, places, 1)
 
 
 def gather_at(house, places, room):
@@ -68,27 +94,21 @@ def gather_at(house, places, room):
 
 
 def bar_of(house, places):
-    standings = reached(house, places)
-    if any([len(standing) == 1 for standing in standings]):
-        return None
-    return standings
+    need_house_and_places(house, places)
+    return never_so_few(house, places, 1)
 
 
 def is_apart(thing, many):
     return are_places(thing, many) and len(thing) >= 2
 
 
+def are_standings_apart(thing, many):
+    return isinstance(thing, list) and all([is_apart(each, many) for each in thing])
+
+
 def is_bar_of(house, places, thing):
     need_house_and_places(house, places)
-    if not isinstance(thing, list) or not all([is_apart(each, house[0]) for each in thing]):
-        return False
-    listed = dict([(standing, True) for standing in thing])
-    if places not in listed:
-        return False
-    for door in house[1]:
-        if not all([through(door, standing) in listed for standing in listed]):
-            return False
-    return True
+    return are_standings_apart(thing, house[0]) and never_lead_out(house, places, thing)
 
 
 def all_standings(many):

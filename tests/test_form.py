@@ -49,7 +49,20 @@ def names_of(tree):
     arguments = [node.arg for node in nodes_of(tree, ast.arg)]
     defined = [node.name for node in nodes_of(tree, (ast.FunctionDef, ast.ClassDef))]
     imported = [alias.asname or alias.name for node in nodes_of(tree, ast.ImportFrom) for alias in node.names]
-    return bound + arguments + defined + imported
+    return bound + arguments + defined + imported + values_of(tree)
+
+
+def values_of(tree):
+    return [node.attr for node in nodes_of(tree, ast.Attribute) if isinstance(node.ctx, ast.Store)]
+
+
+def methods_of(tree):
+    return [node.name for each in nodes_of(tree, ast.ClassDef) for node in each.body if isinstance(node, ast.FunctionDef)]
+
+
+def classes_and_imports_of(tree):
+    imported = [alias.name for node in nodes_of(tree, ast.ImportFrom) for alias in node.names]
+    return imported + [node.name for node in nodes_of(tree, ast.ClassDef)]
 
 
 class TestForm(unittest.TestCase):
@@ -122,6 +135,36 @@ class TestForm(unittest.TestCase):
                 self.assertIn(node.id, names + BUILT_IN)
             for node in nodes_of(tree, ast.Attribute):
                 self.assertIn(node.attr, METHODS + names)
+
+    def test_no_parameter_or_local_is_called_like_a_class_or_an_import(self):
+        for tree in self.each_tree():
+            bound = [node.id for node in nodes_of(tree, ast.Name) if isinstance(node.ctx, ast.Store)]
+            local = bound + [node.arg for node in nodes_of(tree, ast.arg)]
+            self.assertEqual(sorted(set(local) & set(classes_and_imports_of(tree))), [])
+
+    def test_each_import_is_used_and_defined_where_it_is_drawn_from(self):
+        for tree in self.each_tree():
+            used = [node.id for node in nodes_of(tree, ast.Name)]
+            for node in nodes_of(tree, ast.ImportFrom):
+                source = ast.parse((PACKAGE / (node.module.split(".")[1] + ".py")).read_text(encoding="ascii"))
+                tops = [each.name for each in source.body if isinstance(each, (ast.FunctionDef, ast.ClassDef))]
+                tops += [each.targets[0].id for each in source.body if isinstance(each, ast.Assign)]
+                for alias in node.names:
+                    self.assertIn(alias.name, tops)
+                    self.assertIn(alias.name, used)
+
+    def test_no_name_is_a_method_and_a_value(self):
+        methods = [name for tree in self.each_tree() for name in methods_of(tree)]
+        values = [name for tree in self.each_tree() for name in values_of(tree)]
+        self.assertEqual(sorted(set(methods) & set(values)), [])
+
+    def test_sets_are_put_in_order_on_the_spot(self):
+        for tree in self.each_tree():
+            calls = [node for node in nodes_of(tree, ast.Call) if isinstance(node.func, ast.Name)]
+            within = [node.args[0] for node in calls if node.func.id in ("sorted", "len")]
+            for node in calls:
+                if node.func.id == "set":
+                    self.assertIn(node, within)
 
 
 if __name__ == "__main__":

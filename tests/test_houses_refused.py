@@ -2,7 +2,7 @@ import unittest
 
 from gatherall import houses
 from gatherall.errors import NoHouse, NoPlace, NoPlaces, NoRow
-from tests.things import ODD, WRONG_HOUSES, wrong_places, wrong_rows
+from tests.things import ODD, WRONG_HOUSES, Refusing, wrong_places, wrong_rows
 
 ONE = (1, ((0,),))
 TWO = (2, ((0, 1), (1, 1)))
@@ -27,15 +27,7 @@ ALONE = [
 ]
 
 
-class TestRefused(unittest.TestCase):
-    def refused(self, wanted, ask, *handed_in):
-        try:
-            told = ask(*handed_in)
-        except Exception as error:
-            self.assertIs(type(error), wanted)
-        else:
-            self.fail(f"not refused: {told}")
-
+class TestRefused(Refusing):
     def test_no_house(self):
         for place, house in enumerate(WRONG_HOUSES):
             for number, ask in enumerate(WITH_PLACES):

@@ -2,7 +2,7 @@ import unittest
 
 from gatherall import webs
 from gatherall.errors import NoPlaces, NoWeb
-from tests.things import WRONG_WEBS, path, ring, wrong_places
+from tests.things import WRONG_WEBS, Refusing, path, ring, wrong_places
 
 ASKED = [
     lambda web, places: webs.steps(web, places),
@@ -16,15 +16,7 @@ ASKED = [
 ]
 
 
-class TestRefused(unittest.TestCase):
-    def refused(self, wanted, ask, web, places):
-        try:
-            told = ask(web, places)
-        except Exception as error:
-            self.assertIs(type(error), wanted)
-        else:
-            self.fail(f"not refused: {told}")
-
+class TestRefused(Refusing):
     def test_no_web(self):
         for number, ask in enumerate(ASKED):
             for place, web in enumerate(WRONG_WEBS):

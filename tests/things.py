@@ -1,6 +1,7 @@
 """Wrong things to hand in, and slow, plain searches to hold the program's answers against."""
 
 import itertools
+import unittest
 
 # Of no use anywhere, whatever is asked for.
 ODD = [
@@ -35,6 +36,24 @@ WRONG_HOUSES = WRONG_PAIRS + [
     (1, ((0,), [0])), (8, (tuple(range(8)), tuple(range(1, 9)))),
 ]
 
+# Houses with None within a door are no houses, but broken ones.
+WRONG_BROKEN_HOUSES = [thing for thing in WRONG_HOUSES if thing != (2, ((0, None),))] + [
+    (2, ((None,),)), (1, ((None, None),)), (2, ((None, 2),)), (2, ((None, -1),)), (2, ((None, True),)),
+    (2, ((False, None),)), (2, ((None, "1"),)), (2, ([None, 0],)), (2, ((None, None), None)), (2, ((None, []),)),
+    (2, (None, (None, None))), (3, ((None, None),)), (1, ((None,), (None,), (None,), (None,))), (None, ((None,),)),
+    (9, ((None,) * 9,)), (True, ((None,),)), [1, ((None,),)], (1, [(None,)]), (2, ((None, (None,)),)), (2, ((0, ()),)),
+]
+
+
+class Refusing(unittest.TestCase):
+    def refused(self, wanted, ask, *handed_in):
+        try:
+            told = ask(*handed_in)
+        except Exception as error:
+            self.assertIs(type(error), wanted)
+        else:
+            self.fail(f"not refused: {told}")
+
 
 def wrong_places(many):
     out_of_range = [(many,), (0, many), (-1, 0), (-many,), (many + 1,), tuple(range(many + 1))]
@@ -48,6 +67,23 @@ def wrong_rows(doors):
     too_long = [(0,) * 61, (0,) * 100, (doors - 1,) * 61]
     other = [0, 1, ((),), ((0,),), [0] * 3, {0: 0}, "00", (0, None), (False,), (0, False), (0,) * 59 + (False,)]
     return [thing for thing in ODD if thing not in [(1, 0), (1, 1)]] + out_of_range + too_long + other
+
+
+def wrong_names(many):
+    whole = tuple(range(many))
+    lengths = [(), whole[1:], whole[:-1], whole + (many,), whole + (0,), whole + whole]
+    out_of_range = [whole[:-1] + (many,), tuple(range(1, many + 1)), (-1,) + whole[1:], (-1,) + whole[:-1]]
+    twice = [(0,) * many, (many - 1,) * many, whole[:-1] + (0,), whole[1:] + (many - 1,)]
+    booleans = [(False,) + whole[1:], whole[1:] + (False,), (0, True) + whole[2:], (True,) + whole[:1] + whole[2:]]
+    kinds = [
+        0, many, list(whole), list(whole[::-1]), dict.fromkeys(whole), set(whole), range(many), (whole,), (None,) * many,
+        "".join(map(str, whole)), tuple(map(str, whole)), whole[:-1] + (None,), whole[:-1] + ((many - 1,),),
+        whole[:-1] + ([],), frozenset(whole),
+    ]
+    wrong = ODD + lengths + out_of_range + twice + booleans + kinds
+    right = list(itertools.permutations(whole))
+    # (False, 1) equals (0, 1): so that it stays among the wrong ones, kinds are looked at too.
+    return [thing for thing in wrong if thing not in right or {type(each) for each in thing} != {int}]
 
 
 def subsets(many):
@@ -160,3 +196,28 @@ def fewest_doors(house, places, fits):
         seen |= level
         count += 1
     return None
+
+
+def slow_careful_led(broken, places, row):
+    """The standing behind a row, or None where a door of it leads nowhere from one of their rooms."""
+    rooms = set(places)
+    for door in row:
+        rooms = {broken[1][door][room] for room in rooms}
+        if None in rooms:
+            return None
+    return tuple(sorted(rooms))
+
+
+def levels(start, doors, behind):
+    """The sets of what can be come to by 0, 1, 2 and so on doors, but not by fewer."""
+    level = {start}
+    seen = set(level)
+    while level:
+        yield level
+        level = {behind(each, door) for each in level for door in range(doors)} - seen - {None}
+        seen |= level
+
+
+def some_broken_house(chance, many, doors, part):
+    house = some_house(chance, many, doors)
+    return (many, tuple(tuple(None if chance.random() < part else room for room in door) for door in house[1]))
