@@ -99,6 +99,11 @@ def need_row(row, house):
         raise NoRow("this is no row of doors")
 
 
+def need_door(door, house):
+    if not is_number(door, 0, len(house[1]) - 1):
+        raise NoRow("there is no such door")
+
+
 def need_each_once(names, many):
     if not is_each_once(names, many):
         raise NoNames("these are not all the numbers, each once")

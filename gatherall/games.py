@@ -1,7 +1,7 @@
 """A game of doors: all go door by door, and back."""
 
-from gatherall.checks import is_number
-from gatherall.errors import NoRow, Nothing
+from gatherall.checks import need_door
+from gatherall.errors import Nothing
 from gatherall.houses import gather, need_house_and_places, through
 
 
@@ -20,8 +20,7 @@ class Game:
         return tuple(self.doors)
 
     def go(self, door):
-        if not is_number(door, 0, len(self.house[1]) - 1):
-            raise NoRow("there is no such door")
+        need_door(door, self.house)
         self.standings.append(through(self.house[1][door], self.places()))
         self.doors.append(door)
         return len(self.places())

@@ -30,20 +30,25 @@ def led(house, places, row):
     return behind_row(house, places, row)
 
 
-# A dict of the shortest row to each standing that can be come to. Its keys come
-# in the order of their rows, the shorter ones first, of as long ones the first
-# one, as tuples: so the first key that fits has the row that is to be told.
-def shortest_rows(house, places):
-    rows = {places: ()}
-    waiting = [places]
+# A dict of the shortest row to each thing that can be come to through doors, where
+# behind(door, thing) tells the next one, or None. Its keys come in the order of
+# their rows, the shorter ones first, of as long ones the first one, as tuples: so
+# the first key that fits has the row that is to be told.
+def rows_from(start, doors, behind):
+    rows = {start: ()}
+    waiting = [start]
     while waiting:
-        standing = waiting.pop(0)
-        for door in range(len(house[1])):
-            behind = through(house[1][door], standing)
-            if behind is not None and behind not in rows:
-                rows[behind] = rows[standing] + (door,)
-                waiting.append(behind)
+        ahead = waiting.pop(0)
+        for door in range(len(doors)):
+            came = behind(doors[door], ahead)
+            if came is not None and came not in rows:
+                rows[came] = rows[ahead] + (door,)
+                waiting.append(came)
     return rows
+
+
+def shortest_rows(house, places):
+    return rows_from(places, house[1], through)
 
 
 def row_to_so_few(house, places, few):

@@ -30,17 +30,18 @@ def fewest_steps(tied, start):
     return far
 
 
+# How far each place is from each counter. Left out is where not all can come to.
+def ways_to_places(web, places):
+    tied = tied_places(web)
+    far = [fewest_steps(tied, start) for start in places]
+    common = [place for place in range(web[0]) if all([place in each for each in far])]
+    return dict([(place, [each[place] for each in far]) for place in common])
+
+
 def steps(web, places):
     need_web_and_places(web, places)
-    tied = tied_places(web)
-    ways = [fewest_steps(tied, start) for start in places]
-    best = None
-    for place in range(web[0]):
-        if all([place in far for far in ways]):
-            total = sum([far[place] for far in ways])
-            if best is None or total < best[0]:
-                best = (total, place)
-    return best
+    ways = ways_to_places(web, places)
+    return min([(sum(ways[place]), place) for place in ways], default=None)
 
 
 def one_move_on(tied, could_be):

@@ -108,6 +108,21 @@ class TestForm(unittest.TestCase):
                 if isinstance(node.ops[0], (ast.Is, ast.IsNot)):
                     self.assertIn(ast.unparse(node.comparators[0]), ("None", "True", "False"))
 
+    def test_numbers_and_texts(self):
+        for tree in self.each_tree():
+            for node in nodes_of(tree, ast.BinOp):
+                if isinstance(node.op, ast.Pow):
+                    self.assertIsInstance(node.right, ast.Constant)
+            for node in nodes_of(tree, ast.Constant):
+                self.assertNotIn("%", str(node.value))
+
+    def test_keywords_of_calls(self):
+        allowed = {"sorted": ["key", "reverse"], "min": ["key", "default"], "max": ["key", "default"]}
+        for tree in self.each_tree():
+            for node in nodes_of(tree, ast.Call):
+                named = node.func.id if isinstance(node.func, ast.Name) else None
+                self.assertLessEqual({each.arg for each in node.keywords}, set(allowed.get(named, [])))
+
     def test_imports_are_the_packages_own(self):
         drawn = {}
         for path in package_files():
@@ -126,6 +141,7 @@ class TestForm(unittest.TestCase):
                 drawn.pop(name)
 
     def test_names(self):
+        of_objects = [name for tree in self.each_tree() for name in methods_of(tree) + values_of(tree)]
         for tree in self.each_tree():
             names = names_of(tree)
             for name in names:
@@ -134,7 +150,7 @@ class TestForm(unittest.TestCase):
             for node in nodes_of(tree, ast.Name):
                 self.assertIn(node.id, names + BUILT_IN)
             for node in nodes_of(tree, ast.Attribute):
-                self.assertIn(node.attr, METHODS + names)
+                self.assertIn(node.attr, METHODS + of_objects)
 
     def test_no_parameter_or_local_is_called_like_a_class_or_an_import(self):
         for tree in self.each_tree():

@@ -86,6 +86,24 @@ def wrong_names(many):
     return [thing for thing in wrong if thing not in right or {type(each) for each in thing} != {int}]
 
 
+def wrong_signs(many):
+    """What are no signs of so many rooms, nor signs that were seen, so many."""
+    lengths = [(), (0,) * (many - 1), (0,) * (many + 1), (3,) * (many + 8)]
+    out_of_range = [(0,) * (many - 1) + (4,), (4,) + (0,) * (many - 1), (0,) * (many - 1) + (-1,), (-1,) * many]
+    booleans = [(False,) * many, (True,) * many, (0,) * (many - 1) + (False,), (True,) + (0,) * (many - 1)]
+    kinds = [
+        0, 1, [0] * many, "0" * many, ("0",) * many, (None,) * many, ((0,) * many,), {0: 0}, range(many),
+        dict.fromkeys(range(many)), (0,) * (many - 1) + (None,), (0,) * (many - 1) + ((0,),), ((),) + (0,) * (many - 1),
+        (0,) * (many - 1) + ("0",), (10 ** 5000,) * many,
+    ]
+    right = [(1, 0), (1, 1)] if many == 2 else []
+    return [thing for thing in ODD if thing not in right] + lengths + out_of_range + booleans + kinds
+
+
+def some_signs(chance, many, different):
+    return tuple(chance.randrange(different) for room in range(many))
+
+
 def subsets(many):
     return [each for size in range(1, many + 1) for each in itertools.combinations(range(many), size)]
 
@@ -216,6 +234,19 @@ def levels(start, doors, behind):
         yield level
         level = {behind(each, door) for each in level for door in range(doors)} - seen - {None}
         seen |= level
+
+
+def slow_seen(house, signs, room, row):
+    """What one who is in a room sees along a row, and where one is then."""
+    seen = [signs[room]]
+    for door in row:
+        room = house[1][door][room]
+        seen.append(signs[room])
+    return (tuple(seen), room)
+
+
+def slow_parts(rooms, signs):
+    return [frozenset(room for room in rooms if signs[room] == sign) for sign in {signs[room] for room in rooms}]
 
 
 def some_broken_house(chance, many, doors, part):
